@@ -63,11 +63,39 @@ func TestF2Wrong(t *testing.T) {
 	// An argument that nothing asks to be expanded is not.
 	comes(t, l, "none(f(,))", "1", 1+4+1)
 	comes(t, l, "no2(h,f(,))", `"h" h1`, 1+5+2)
-	// What is read from the left runs out of steps ahead of where it ends, and of how many arguments there are.
-	fails(t, l, "f(1", 1, 9, api.Fault{Err: api.ErrFuel, At: 2})
-	fails(t, l, "f(1", 2, 9, api.Fault{Err: api.ErrEnd})
+	// Steps run out ahead of how many arguments there are.
 	fails(t, l, "f(1,2)", 2, 9, api.Fault{Err: api.ErrFuel, At: 4})
 	fails(t, l, "f(1,2)", 3, 9, api.Fault{Err: api.ErrMany})
+}
+
+// A call that does not end has no arguments, whose tokens could be steps: that it does not is told as soon as its name has its step.
+func TestF2EndsAheadOfSteps(t *testing.T) {
+	l := defined(t, "h() !", "f(x) <x>", "two(x,y) <x|y>", "v(...) <__VA_ARGS__>", "open f (", "more f (1 ( 2 )", "shut )", "p(x,y) x##y")
+	for _, x := range []struct {
+		s string
+		// the steps up to that of the name whose call does not end, and where it stands.
+		steps    int
+		file, at int
+	}{
+		{"f(", 1, 0, 0}, {"f(1 2", 1, 0, 0}, {" f (1 2", 1, 0, 1}, {"h(1", 1, 0, 0}, {"h(,", 1, 0, 0}, {"two(1,2,3", 1, 0, 0}, {"v(1,2,3", 1, 0, 0}, {"v(,,,", 1, 0, 0},
+		{"a f((1) 2, 3", 2, 0, 2}, {"f(1 (2)", 1, 0, 0}, {"f((((1)))", 1, 0, 0}, {"f(f(1) f(2)", 1, 0, 0}, {"f(1 shut", 1, 0, 0}, {"f(\n1\n2", 1, 0, 0},
+		{"f(1) f(2 3", 1 + 1 + 1 + 3 + 1, 0, 5}, {"open 1 2", 2, 1, 5}, {"more 3 4", 2, 1, 5}, {"x more (3) 4", 3, 1, 5}, {"p(f,)(1 2", 1 + 1 + 1, 0, 2}, {"f(open 1 2)", 1 + 3 + 2, 1, 5}, {"two(1,f(more))", 1 + 5 + 1 + 1 + 1 + 2, 1, 5},
+	} {
+		for fuel := x.steps; fuel < x.steps+9; fuel++ {
+			fails(t, l, x.s, fuel, api.MaxOut, api.Fault{Err: api.ErrEnd, File: x.file, At: x.at})
+		}
+		if _, _, f := expand.All(sources, l, read(t, 0, x.s), x.steps-1, api.MaxOut); f.Err != api.ErrFuel {
+			t.Errorf("%q, %d steps: %v", x.s, x.steps-1, f)
+		}
+	}
+	// One that ends has its arguments' tokens be steps, however far its ) is.
+	fails(t, l, "f(1 2)", 1, 9, api.Fault{Err: api.ErrFuel, At: 2})
+	fails(t, l, "f(1 2)", 2, 9, api.Fault{Err: api.ErrFuel, At: 4})
+	fails(t, l, "open 1 2)", 3, 9, api.Fault{Err: api.ErrFuel, At: 7})
+	fails(t, l, "f(f(1 2) 3", 1, 9, api.Fault{Err: api.ErrEnd})
+	fails(t, l, "f(f(1 2) 3)", 1, 9, api.Fault{Err: api.ErrFuel, At: 2})
+	// Steps that run out in an argument come ahead of a call that does not end behind it.
+	fails(t, l, "f(1) f(2", 3, 9, api.Fault{Err: api.ErrFuel, File: 1, At: 5})
 }
 
 func TestF3Quoted(t *testing.T) {

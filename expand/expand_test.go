@@ -263,4 +263,11 @@ func TestF1Ends(t *testing.T) {
 			t.Errorf("%d tokens are %v", len(long), f)
 		}
 	}
+	// Looking for a ) takes no steps, and is given up but once.
+	open := slices.Repeat(read(t, 0, "f (1"), 1<<20)
+	for range 20 {
+		if _, _, f := expand.All(nil, f1, open, 1, api.MaxOut); f != (api.Fault{Err: api.ErrEnd}) {
+			t.Errorf("%d tokens are %v", len(open), f)
+		}
+	}
 }

@@ -41,9 +41,47 @@ func (f *feed) opens() bool {
 	return some && t.Text == "("
 }
 
+// all goes through the tokens, the first one first; they stay.
+func (f *feed) all(yield func(api.Token) bool) {
+	for _, t := range slices.Backward(f.back) {
+		if !yield(t) {
+			return
+		}
+	}
+	for _, t := range f.list {
+		if !yield(t) {
+			return
+		}
+	}
+}
+
+// within answers how many tokens stand between the first one, which is (, and the ) that ends it, if there is one.
+func (f *feed) within() (size int, ends bool) {
+	size, depth := -1, 0
+	for t := range f.all {
+		depth += deeper(t)
+		if depth == 0 {
+			return size, true
+		}
+		size++
+	}
+	return 0, false
+}
+
 // put puts l ahead of all.
 func (f *feed) put(l []api.Token) {
 	for _, t := range slices.Backward(l) {
 		f.back = append(f.back, t)
 	}
+}
+
+// deeper answers by how many parentheses what stands behind t is deeper than t.
+func deeper(t api.Token) int {
+	switch t.Text {
+	case "(":
+		return 1
+	case ")":
+		return -1
+	}
+	return 0
 }

@@ -117,7 +117,7 @@ func (s *second) call(name api.Token, m api.Macro, rest []api.Token) (out []api.
 // args answers a call's arguments, and the number of the token behind its ).
 func (s *second) args(name api.Token, m api.Macro, rest []api.Token) (out [][]api.Token, size int, wrong *api.Fault) {
 	depth, end := 0, -1
-	var commas []int
+	var commas, steps []int
 	for i, t := range rest {
 		if t.Text == "(" {
 			depth++
@@ -132,15 +132,16 @@ func (s *second) args(name api.Token, m api.Macro, rest []api.Token) (out [][]ap
 		if depth == 1 && t.Text == "," {
 			commas = append(commas, i)
 		} else if i > 0 {
-			if s.left == 0 {
-				return nil, 0, wrongAt(api.ErrFuel, t)
-			}
-			s.left--
+			steps = append(steps, i)
 		}
 	}
 	if end < 0 {
 		return nil, 0, wrongAt(api.ErrEnd, name)
 	}
+	if s.left < len(steps) {
+		return nil, 0, wrongAt(api.ErrFuel, rest[steps[s.left]])
+	}
+	s.left -= len(steps)
 	if m.More && len(commas) >= len(m.Params) {
 		commas = commas[:len(m.Params)-1]
 	}
