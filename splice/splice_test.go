@@ -102,6 +102,28 @@ func TestB1TextByte(t *testing.T) {
 	}
 }
 
+func TestBegins(t *testing.T) {
+	for _, x := range []struct {
+		s, name string
+		want    bool
+	}{
+		{"", "", true}, {"a", "", true}, {"", "a", false}, {"ab", "a", true}, {"ab", "ab", true}, {"ab", "abc", false}, {"ab", "b", false},
+		{"a\\\nb", "ab", true}, {"\\\na", "a", true}, {"a\\\n", "a", true}, {"a\\\n", "a\\", false}, {"a\\", "a\\", true},
+		{"\r\n", "\n", true}, {"\r\n", "\r", false}, {"\\\\\n\n", "\\\n", true},
+	} {
+		if got := splice.Begins(x.s, x.name); got != x.want {
+			t.Errorf("Begins(%q, %q) is %v", x.s, x.name, got)
+		}
+	}
+	each("a\\\r\n", 5, func(s string) {
+		each("a\\\r\n", 3, func(name string) {
+			if splice.Begins(s, name) != strings.HasPrefix(splice.Text(s).Text, name) {
+				t.Fatalf("Begins(%q, %q) is not what Text tells", s, name)
+			}
+		})
+	})
+}
+
 func TestB1Where(t *testing.T) {
 	x := splice.Text("a\\\nb")
 	for _, y := range [][2]int{{math.MinInt, -1}, {-1, -1}, {0, 0}, {1, 3}, {2, 4}, {3, -1}, {math.MaxInt, -1}} {
